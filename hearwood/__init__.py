@@ -1,0 +1,1 @@
+"""Hearwood: who heard a tale from whom, at the least cost."""
