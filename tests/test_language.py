@@ -30,6 +30,17 @@ WORDS = re.compile(
     r"|namedtuple|NamedTuple|TypedDict|TYPE_CHECKING|abstractmethod)\b|dataclass|overload|contextmanager"
 )
 
+METHODS = """
+append clear copy count endswith extend find get index insert isalnum isalpha isdigit islower isspace isupper items
+join keys ljust lower lstrip partition pop remove replace reverse rfind rjust rpartition rsplit rstrip setdefault
+split splitlines startswith strip update upper values zfill bit_length
+""".split()
+
+KEYWORDS = {"sorted": ["key", "reverse"], "min": ["key", "default"], "max": ["key", "default"]}
+
+# Walked on the spot alone, never kept (L23); sets are not kept either (L24).
+NOT_KEPT = ["zip", "enumerate", "reversed", "range", "set", "frozenset"]
+
 
 def files():
     return sorted(path for path in PACKAGE.rglob("*") if "__pycache__" not in path.parts)
@@ -105,6 +116,82 @@ class Language(unittest.TestCase):
                     self.assertIsInstance(node.ctx, ast.Load)
             if isinstance(node, ast.arg):
                 self.assertFalse(hasattr(builtins, node.arg), node.arg)
+
+    def test_calls_stand_alone_and_texts_do_not(self):
+        for path, text in sources():
+            tree = ast.parse(text)
+            for node in ast.walk(tree):
+                if isinstance(node, ast.Expr) and node is not tree.body[0]:
+                    with self.subTest(path.name, line=node.lineno):
+                        self.assertIsInstance(node.value, ast.Call)
+
+    def test_the_top_of_a_file(self):
+        for path, text in sources():
+            bound = []
+            for node in ast.parse(text).body[1:]:
+                with self.subTest(path.name, line=node.lineno):
+                    self.assertIsInstance(node, (ast.ImportFrom, ast.Assign, ast.FunctionDef, ast.ClassDef))
+                    if isinstance(node, ast.Assign):
+                        self.assertIsInstance(node.value, (ast.Constant, ast.Tuple))
+                        bound.append(node.targets[0].id)
+                    elif isinstance(node, ast.ImportFrom):
+                        bound.extend(drawn.name for drawn in node.names)
+                    else:
+                        bound.append(node.name)
+            self.assertEqual(len(bound), len(set(bound)), path.name)
+
+    def test_methods_and_values(self):
+        methods = [node.name for path, node in nodes() if isinstance(node, ast.ClassDef)
+                   for node in node.body if isinstance(node, ast.FunctionDef)]
+        values = [node.attr for path, node in nodes()
+                  if isinstance(node, ast.Attribute) and isinstance(node.ctx, ast.Store)]
+        self.assertEqual(set(methods) & set(values), set())
+        for path, node in nodes():
+            if isinstance(node, ast.Attribute):
+                with self.subTest(path.name, line=node.lineno):
+                    self.assertIn(node.attr, METHODS + methods + values)
+
+    def test_beside_is(self):
+        for path, node in nodes():
+            if isinstance(node, ast.Compare) and isinstance(node.ops[0], (ast.Is, ast.IsNot)):
+                with self.subTest(path.name, line=node.lineno):
+                    self.assertIn(node.comparators[0].value, (None, True, False))
+
+    def test_keywords(self):
+        for path, node in nodes():
+            if isinstance(node, ast.Call) and node.keywords:
+                with self.subTest(path.name, line=node.lineno):
+                    for keyword in node.keywords:
+                        self.assertIn(keyword.arg, KEYWORDS.get(getattr(node.func, "id", None), []))
+
+    def test_what_is_walked_is_not_kept(self):
+        for path, node in nodes():
+            kept = node.value if isinstance(node, (ast.Assign, ast.Return)) else None
+            if isinstance(kept, ast.Call) and isinstance(kept.func, ast.Name):
+                with self.subTest(path.name, line=node.lineno):
+                    self.assertNotIn(kept.func.id, NOT_KEPT)
+
+    def test_texts(self):
+        for path, node in nodes():
+            if isinstance(node, ast.Constant) and isinstance(node.value, str):
+                with self.subTest(path.name, line=node.lineno):
+                    self.assertNotIn("%", node.value)
+            if isinstance(node, ast.FormattedValue):
+                with self.subTest(path.name, line=node.lineno):
+                    self.assertIsInstance(node.value, ast.Name)
+                    self.assertIsNone(node.format_spec)
+
+    def test_errors(self):
+        for path, node in nodes():
+            if isinstance(node, ast.ExceptHandler):
+                with self.subTest(path.name, line=node.lineno):
+                    self.assertIsNotNone(node.type)
+                    taken = node.type.elts if isinstance(node.type, ast.Tuple) else [node.type]
+                    for error in taken:
+                        self.assertFalse(hasattr(builtins, error.id))
+            if isinstance(node, ast.Raise):
+                with self.subTest(path.name, line=node.lineno):
+                    self.assertIsInstance(node.exc, ast.Call)
 
 
 if __name__ == "__main__":
